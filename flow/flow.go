@@ -1,0 +1,64 @@
+// Package flow: values that flow through stages: see DOC.md.
+package flow
+
+// Item is how a value is handed over: Kind 0: the number N; 1: the word S; 2: the wave Re + Im * i.
+type Item struct {
+	Kind   int
+	N      int32
+	S      string
+	Re, Im int64
+}
+
+// Line is a row of stages. The zero Line, and a nil one, is the line without any.
+type Line struct {
+	spec string
+	row  []Stage
+}
+
+func (l *Line) String() string {
+	if l == nil {
+		return ""
+	}
+	return l.spec
+}
+
+func (l *Line) Names() []string {
+	var names []string
+	for _, s := range l.Stages() {
+		names = append(names, s.Name())
+	}
+	return names
+}
+
+func (l *Line) Stages() []Stage {
+	if l == nil {
+		return nil
+	}
+	return appendAll(nil, l.row)
+}
+
+// Run lets items flow through the line (P3).
+func (l *Line) Run(in []Item) ([]Item, error) { return nil, nil }
+
+// Each is to be ranged over (P4).
+func (l *Line) Each(in []Item) func(yield func(Item, error) bool) {
+	return func(func(Item, error) bool) {}
+}
+
+// Through hands what comes out to f (P5).
+func (l *Line) Through(in []Item, f func(Item) bool) error { return nil }
+
+// Then puts a stage behind the others (P6).
+func (l *Line) Then(name string, f func(Item) (Item, bool, error)) *Line { return nil }
+
+// RunAll runs lines side by side (P7).
+func RunAll(specs []string, in []Item) ([][]Item, []error) { return nil, nil }
+
+// Counted is a line that counts what it answers (P8).
+type Counted struct{ *Line }
+
+func Count(l *Line) *Counted { return nil }
+
+func (c *Counted) Run(in []Item) ([]Item, error) { return nil, nil }
+
+func (c *Counted) Seen() int { return 0 }
