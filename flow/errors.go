@@ -3,6 +3,7 @@ package flow
 import (
 	"errors"
 	"strconv"
+	"strings"
 )
 
 var (
@@ -34,11 +35,13 @@ type StageError struct {
 	Err  error
 }
 
+// Error goes along the chain and does not ask the next StageError for its text: of a long chain that would copy the text each time.
 func (e *StageError) Error() string {
-	if e == nil {
-		return "no stage"
+	var t stageTexts
+	if e == nil || !walkFrom(e, &t) {
+		return placeText(e) + unknownText
 	}
-	return "stage " + strconv.Itoa(e.At) + " (" + e.Name + "): " + textOf(e.Err)
+	return t.text.String() + textOf(t.behind)
 }
 
 func (e *StageError) Unwrap() error {
@@ -48,16 +51,43 @@ func (e *StageError) Unwrap() error {
 	return e.Err
 }
 
-// textOf stands between a StageError and an error that a caller made: that one may be nil, panic, or lead back to the StageError itself.
+const unknownText = "an error without a text"
+
+// stageTexts gathers the texts of the StageErrors with which a chain begins, and the error behind them.
+type stageTexts struct {
+	text   strings.Builder
+	behind error
+}
+
+func (t *stageTexts) met(err error) {
+	if t.behind != nil {
+		return
+	}
+	if s, ok := err.(*StageError); ok && s != nil {
+		t.text.WriteString(placeText(s))
+		return
+	}
+	t.behind = err
+}
+
+func (t *stageTexts) ended(error) {}
+
+func placeText(e *StageError) string {
+	if e == nil {
+		return "no stage: "
+	}
+	return "stage " + strconv.Itoa(e.At) + " (" + e.Name + "): "
+}
+
+// textOf recovers because it asks an error that a caller made.
 func textOf(err error) (text string) {
-	const unknown = "an error without a text"
 	defer func() {
 		if recover() != nil {
-			text = unknown
+			text = unknownText
 		}
 	}()
-	if err == nil || !ends(err) {
-		return unknown
+	if err == nil {
+		return unknownText
 	}
 	return err.Error()
 }

@@ -12,7 +12,7 @@ type Item struct {
 // Line is a row of stages. The zero Line, and a nil one, is the line without any.
 type Line struct {
 	spec string
-	row  []Stage
+	row  []stage
 }
 
 func (l *Line) String() string {
@@ -30,19 +30,40 @@ func (l *Line) Names() []string {
 	return names
 }
 
-func (l *Line) Stages() []Stage {
+func (l *Line) Stages() []Stage { return appendAll(nil, l.stages()) }
+
+func (l *Line) stages() []stage {
 	if l == nil {
 		return nil
 	}
-	return appendAll(nil, l.row)
+	return l.row
 }
 
 // Run lets items flow through the line (P3).
-func (l *Line) Run(in []Item) ([]Item, error) { return nil, nil }
+func (l *Line) Run(in []Item) ([]Item, error) {
+	var out []Item
+	for i, err := range l.Each(in) {
+		if err != nil {
+			return out, err
+		}
+		out = append(out, i)
+	}
+	return out, nil
+}
 
 // Each is to be ranged over (P4).
 func (l *Line) Each(in []Item) func(yield func(Item, error) bool) {
-	return func(func(Item, error) bool) {}
+	values, whole := valuesOf(in)
+	return func(yield func(Item, error) bool) {
+		if yield == nil {
+			return
+		}
+		s := stream{values: values}
+		if !whole {
+			s.err = &StageError{At: -1, Err: ErrNone}
+		}
+		flowThrough(l.stages(), s, yield)
+	}
 }
 
 // Through hands what comes out to f (P5).

@@ -72,8 +72,8 @@ type reader struct {
 }
 
 // line reads a LINE and the byte that closes it: 0 stands for the end of the text.
-func (r *reader) line(end byte) ([]Stage, bool) {
-	var row []Stage
+func (r *reader) line(end byte) ([]stage, bool) {
+	var row []stage
 	if r.closes(end) {
 		return row, true
 	}
@@ -107,7 +107,7 @@ func (r *reader) skip(b byte) bool {
 	return true
 }
 
-func (r *reader) stage() (Stage, bool) {
+func (r *reader) stage() (stage, bool) {
 	p, ok := r.named()
 	if !ok {
 		return nil, false
@@ -127,15 +127,18 @@ func (r *reader) stage() (Stage, bool) {
 	return &simpleStage{mark: m}, true
 }
 
-func (r *reader) withK(m mark, p pattern) (Stage, bool) {
+func (r *reader) withK(m mark, p pattern) (stage, bool) {
 	if !r.skip(' ') {
 		return nil, false
 	}
 	k, ok := r.number(p.low, p.high)
+	if p.name == "take" {
+		return &takeStage{mark: m, k: k}, ok
+	}
 	return &simpleStage{mark: m, k: k}, ok
 }
 
-func (r *reader) withHow(m mark) (Stage, bool) {
+func (r *reader) withHow(m mark) (stage, bool) {
 	if !r.skip(' ') {
 		return nil, false
 	}
@@ -147,7 +150,7 @@ func (r *reader) withHow(m mark) (Stage, bool) {
 	return &foldStage{mark: m, how: hows[i]}, true
 }
 
-func (r *reader) withTwo(m mark) (Stage, bool) {
+func (r *reader) withTwo(m mark) (stage, bool) {
 	if !r.skip('(') {
 		return nil, false
 	}
@@ -159,7 +162,7 @@ func (r *reader) withTwo(m mark) (Stage, bool) {
 	return &bothStage{mark: m, first: first, second: second}, ok
 }
 
-func (r *reader) withInner(m mark, p pattern) (Stage, bool) {
+func (r *reader) withInner(m mark, p pattern) (stage, bool) {
 	if !r.skip(' ') {
 		return nil, false
 	}

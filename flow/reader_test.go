@@ -8,7 +8,7 @@ import (
 )
 
 // written writes a row of stages out again, from what was kept of it.
-func written(row []Stage) string {
+func written(row []stage) string {
 	var parts []string
 	for _, s := range row {
 		switch s := s.(type) {
@@ -19,6 +19,8 @@ func written(row []Stage) string {
 			} else {
 				parts = append(parts, s.name)
 			}
+		case *takeStage:
+			parts = append(parts, s.name+" "+strconv.Itoa(s.k))
 		case *foldStage:
 			parts = append(parts, s.name+" "+s.how)
 		case *bothStage:

@@ -12,19 +12,50 @@ type Fault struct {
 // otherError is the E of an error in which none of the package's own stands.
 const otherError = 8
 
-// longest is how many errors may stand in a chain that Tell looks through. A caller can make one that leads back into itself, and Tell has to end with that one too.
-const longest = 1 << 20
-
 // Tell tells what an error is (P10).
 func Tell(err error) Fault {
 	if err == nil {
 		return Fault{}
 	}
-	if !ends(err) {
-		return Fault{E: otherError}
+	f := finds{number: otherError}
+	walkFrom(err, &f)
+	return f.fault()
+}
+
+// finds is what Tell looks for on its way along a chain.
+type finds struct {
+	number int
+	stage  *StageError
+	syntax *SyntaxError
+}
+
+// met asks an error alone: errors.As would go on to those behind it, and from a chain that leads back into itself it would not return.
+func (f *finds) met(err error) {
+	switch e := err.(type) {
+	case *StageError:
+		if f.stage == nil {
+			f.stage = e
+		}
+	case *SyntaxError:
+		if f.syntax == nil {
+			f.syntax = e
+		}
 	}
-	at, name := placeOf(err)
-	return Fault{E: numberOf(err), At: at, Name: name}
+}
+
+// ended looks for the package's errors where a chain ends: they wrap nothing, so they stand nowhere else.
+func (f *finds) ended(err error) {
+	f.number = min(f.number, numberOf(err))
+}
+
+func (f *finds) fault() Fault {
+	switch {
+	case f.stage != nil:
+		return Fault{E: f.number, At: f.stage.At, Name: f.stage.Name}
+	case f.syntax != nil:
+		return Fault{E: f.number, At: f.syntax.At}
+	}
+	return Fault{E: f.number}
 }
 
 // numberOf recovers because the methods of a caller's error, that errors.Is calls, may panic.
@@ -51,52 +82,4 @@ func numberOf(err error) (e int) {
 		return 7
 	}
 	return otherError
-}
-
-// placeOf recovers on its own, apart from numberOf: a stage's place is known even where the error behind it panics.
-func placeOf(err error) (at int, name string) {
-	defer func() {
-		if recover() != nil {
-			at, name = 0, ""
-		}
-	}()
-	var stage *StageError
-	if errors.As(err, &stage) && stage != nil {
-		return stage.At, stage.Name
-	}
-	var syntax *SyntaxError
-	if errors.As(err, &syntax) && syntax != nil {
-		return syntax.At, ""
-	}
-	return 0, ""
-}
-
-// ends tells whether errors.Is and errors.As come to an end with an error. They go into joined errors too, so these count as well.
-func ends(err error) bool {
-	open := []error{err}
-	for seen := 0; len(open) > 0; seen++ {
-		if seen+len(open) > longest {
-			return false
-		}
-		last := len(open) - 1
-		open = append(open[:last], wrappedBy(open[last])...)
-	}
-	return true
-}
-
-// wrappedBy answers nothing of an error whose Unwrap panics: there the chain can't be followed.
-func wrappedBy(err error) (list []error) {
-	defer func() {
-		if recover() != nil {
-			list = nil
-		}
-	}()
-	if next := errors.Unwrap(err); next != nil {
-		return []error{next}
-	}
-	var joined interface{ Unwrap() []error }
-	if errors.As(err, &joined) {
-		return joined.Unwrap()
-	}
-	return nil
 }
