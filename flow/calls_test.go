@@ -12,6 +12,7 @@ import (
 // TestNoCallPanics calls what is built with what a caller may have by mistake.
 func TestNoCallPanics(t *testing.T) {
 	var none *flow.Line
+	var noCounted *flow.Counted
 	var noStage *flow.StageError
 	var noSyntax *flow.SyntaxError
 	for name, call := range map[string]func(){
@@ -25,6 +26,17 @@ func TestNoCallPanics(t *testing.T) {
 		"Run of a zero line":      func() { (&flow.Line{}).Run(nil) },
 		"Each of no line":         func() { none.Each([]flow.Item{{Kind: 9}})(func(flow.Item, error) bool { return true }) },
 		"Each without a body":     func() { (&flow.Line{}).Each(make([]flow.Item, 3))(nil) },
+		"Through of no line":      func() { none.Through([]flow.Item{{}}, func(flow.Item) bool { panic("own") }) },
+		"Through with nothing":    func() { (&flow.Line{}).Through([]flow.Item{{}, {Kind: 9}}, nil) },
+		"Then of no line":         func() { none.Then("", nil).Run([]flow.Item{{}, {Kind: 9}}) },
+		"Then of a zero line":     func() { (&flow.Line{}).Then("x", nil).Then("", nil).Names() },
+		"RunAll of nothing":       func() { flow.RunAll(nil, nil) },
+		"RunAll of no lines":      func() { flow.RunAll([]string{"", "(", "\xff"}, []flow.Item{{Kind: -1}}) },
+		"Count of no line":        func() { flow.Count(nil).Run([]flow.Item{{}}) },
+		"a Counted of no line":    func() { _ = flow.Count(nil).Then("x", nil).String() },
+		"Run of no Counted":       func() { noCounted.Run([]flow.Item{{}, {Kind: 9}}) },
+		"Seen of no Counted":      func() { noCounted.Seen() },
+		"Run of a zero Counted":   func() { (&flow.Counted{}).Run([]flow.Item{{}}) },
 		"Error of no StageError":  func() { _ = noStage.Error() },
 		"Unwrap of no StageError": func() { _ = noStage.Unwrap() },
 		"Error of no SyntaxError": func() { _ = noSyntax.Error() },

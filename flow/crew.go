@@ -50,12 +50,13 @@ func (c *crew) start(row []stage, s stream) <-chan parcel {
 	return in
 }
 
+// work defers what is to do behind a stage: a caller's function in it may end the goroutine.
 func (c *crew) work(st stage, in <-chan parcel) <-chan parcel {
 	out := make(chan parcel, room)
 	c.Go(func() {
+		defer drain(in)
+		defer close(out)
 		st.run(c, in, out)
-		close(out)
-		drain(in)
 	})
 	return out
 }

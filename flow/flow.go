@@ -1,6 +1,11 @@
 // Package flow: values that flow through stages: see DOC.md.
 package flow
 
+import (
+	"slices"
+	"sync"
+)
+
 // Item is how a value is handed over: Kind 0: the number N; 1: the word S; 2: the wave Re + Im * i.
 type Item struct {
 	Kind   int
@@ -67,19 +72,44 @@ func (l *Line) Each(in []Item) func(yield func(Item, error) bool) {
 }
 
 // Through hands what comes out to f (P5).
-func (l *Line) Through(in []Item, f func(Item) bool) error { return nil }
+func (l *Line) Through(in []Item, f func(Item) bool) error {
+	for i, err := range l.Each(in) {
+		if err != nil {
+			return err
+		}
+		if more, err := handTo(f, i); err != nil || !more {
+			return err
+		}
+	}
+	return nil
+}
 
-// Then puts a stage behind the others (P6).
-func (l *Line) Then(name string, f func(Item) (Item, bool, error)) *Line { return nil }
+// Then puts a stage behind the others (P6). The row is a new one: lines made of one line share no end of it.
+func (l *Line) Then(name string, f func(Item) (Item, bool, error)) *Line {
+	last := &thenStage{mark: mark{name: name, at: len(l.Stages())}, f: f}
+	spec := l.String()
+	if spec != "" {
+		spec += "|"
+	}
+	return &Line{spec: spec + name, row: slices.Concat(l.stages(), []stage{last})}
+}
 
 // RunAll runs lines side by side (P7).
-func RunAll(specs []string, in []Item) ([][]Item, []error) { return nil, nil }
+func RunAll(specs []string, in []Item) ([][]Item, []error) {
+	outs := make([][]Item, len(specs))
+	errs := make([]error, len(specs))
+	var all sync.WaitGroup
+	for i, spec := range specs {
+		all.Go(func() { outs[i], errs[i] = runSpec(spec, in) })
+	}
+	all.Wait()
+	return outs, errs
+}
 
-// Counted is a line that counts what it answers (P8).
-type Counted struct{ *Line }
-
-func Count(l *Line) *Counted { return nil }
-
-func (c *Counted) Run(in []Item) ([]Item, error) { return nil, nil }
-
-func (c *Counted) Seen() int { return 0 }
+func runSpec(spec string, in []Item) ([]Item, error) {
+	l, err := Parse(spec)
+	if err != nil {
+		return nil, err
+	}
+	return l.Run(in)
+}

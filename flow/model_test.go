@@ -9,9 +9,10 @@ import (
 	"testing"
 
 	"flowline/flow"
+	"flowline/plain"
 )
 
-// This file holds Run against a model: the document's table on lists, without goroutines, channels and complex numbers.
+// This file holds runs against a model: the document's table on lists, without goroutines, channels and complex numbers.
 
 // row is a stream as a list.
 type row struct {
@@ -373,6 +374,96 @@ func TestRunAgainstTheModel(t *testing.T) {
 	for _, e := range []int{0, 4, 5, 7} {
 		if faults[flow.Fault{E: e}] < 100 {
 			t.Errorf("the lines made by chance seldom end with E %d: %v", e, faults)
+		}
+	}
+}
+
+// called is what a function makes of a stream that does what plain.Act does, and how often it is called.
+func called(r row, at int, name string, mode, m int) (row, int) {
+	var out []flow.Item
+	for n, item := range r.items {
+		if n+1 == m && mode >= 1 && mode <= 4 {
+			return row{out, flow.Fault{E: []int{0, 8, 6, 7, 7}[mode], At: at, Name: name}}, m
+		}
+		made, goesOn, _ := plain.Act(mode, 0, n+1, item)
+		if goesOn {
+			made.N *= int32(1 - min(made.Kind, 1))
+			out = append(out, made)
+		}
+	}
+	return row{out, r.fault}, len(r.items)
+}
+
+// TestThenAgainstTheModel puts up to three functions behind lines made by chance, and runs those lines by each of their ways.
+func TestThenAgainstTheModel(t *testing.T) {
+	r := rand.New(rand.NewSource(2))
+	for range 10000 {
+		next := 0
+		steps := anyLine(r, 4, &next)
+		if len(text(steps)) > 120 {
+			continue
+		}
+		in := anyItems(r)
+		want := through(steps, asStream(in))
+		l := wantLine(t, text(steps))
+		var calls, wantCalls [3]int
+		for i := range r.Intn(4) {
+			name, mode, m := names[r.Intn(len(names))], r.Intn(9), 1+r.Intn(5)
+			l = l.Then(name, func(item flow.Item) (flow.Item, bool, error) {
+				calls[i]++
+				return plain.Act(mode, m, calls[i], item)
+			})
+			want, wantCalls[i] = called(want, next+i, name, mode, m)
+		}
+		ways := []func() ([]flow.Item, flow.Fault){
+			func() ([]flow.Item, flow.Fault) { return plain.Run(l, in) },
+			func() ([]flow.Item, flow.Fault) { out, f, _ := plain.Loop(l, in, 0); return out, f },
+			func() ([]flow.Item, flow.Fault) { return plain.Through(l, in, 0, false) },
+			func() ([]flow.Item, flow.Fault) {
+				c := flow.Count(l)
+				out, err := c.Run(in)
+				wantSeen(t, l.String(), c, len(want.items))
+				return out, flow.Tell(err)
+			},
+		}
+		for way, run := range ways {
+			clear(calls[:])
+			out, fault := run()
+			if !slices.Equal(out, want.items) || fault != want.fault || calls != wantCalls {
+				t.Fatalf("P6: %q of %v, way %d = %v, %+v, %v calls, want %v, %+v, %v", l, in, way, out, fault, calls, want.items, want.fault, wantCalls)
+			}
+		}
+	}
+}
+
+// TestRunAllAgainstTheModel runs lines made by chance side by side, some of them no lines.
+func TestRunAllAgainstTheModel(t *testing.T) {
+	r := rand.New(rand.NewSource(3))
+	for range 500 {
+		in := anyItems(r)
+		var specs []string
+		var want []row
+		for range r.Intn(20) {
+			next := 0
+			steps := anyLine(r, 6, &next)
+			spec, answer := text(steps), through(steps, asStream(in))
+			if r.Intn(5) == 0 {
+				spec += "?"
+			}
+			if _, f := plain.Parse(spec); f != noFault {
+				answer = row{nil, f}
+			}
+			specs = append(specs, spec)
+			want = append(want, answer)
+		}
+		outs, fs := plain.RunAll(specs, in)
+		if len(outs) != len(specs) || len(fs) != len(specs) {
+			t.Fatalf("P7: %d specs: %d answers, %d errors", len(specs), len(outs), len(fs))
+		}
+		for i, w := range want {
+			if !slices.Equal(outs[i], w.items) || fs[i] != w.fault {
+				t.Errorf("P7: %q of %v = %v, %+v, want %v, %+v", specs[i], in, outs[i], fs[i], w.items, w.fault)
+			}
 		}
 	}
 }
